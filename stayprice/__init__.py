@@ -1,0 +1,1 @@
+"""Stayprice: prices of stays, night by night."""
