@@ -31,6 +31,13 @@ WORDS = (
     "NamedTuple TypedDict TYPE_CHECKING abstractmethod"
 ).split()
 
+WALKED = "zip enumerate reversed range items keys values".split()
+WALKERS = "list tuple dict sorted sum any all enumerate zip min max".split()
+KEYWORDS = (
+    ("sorted", "key"), ("sorted", "reverse"), ("min", "key"), ("min", "default"), ("max", "key"), ("max", "default"),
+    ("sum", "start"), ("enumerate", "start"), ("zip", "strict"),
+)
+
 
 def trees():
     for path in FILES:
@@ -58,6 +65,23 @@ def tops(tree):
 def drawn(tree):
     rows = [node for node in ast.walk(tree) if isinstance(node, ast.ImportFrom)]
     return [node for node in rows if node.module != "__future__"]
+
+
+def called(node):
+    return node.func.attr if isinstance(node.func, ast.Attribute) else getattr(node.func, "id", None)
+
+
+def on_the_spot(tree):
+    """The things that a loop, a comprehension or a walking call walks."""
+    places = []
+    for node in ast.walk(tree):
+        if isinstance(node, (ast.For, ast.comprehension)):
+            places.append(node.iter)
+        if isinstance(node, ast.Call) and isinstance(node.func, ast.Name) and node.func.id in WALKERS:
+            places.extend(node.args[:1])
+        if isinstance(node, ast.Call) and called(node) == "join":
+            places.extend(node.args)
+    return places
 
 
 class Texts(unittest.TestCase):
@@ -121,7 +145,43 @@ class Forms(unittest.TestCase):
                 self.assertTrue(any(thing is None or isinstance(thing, bool) for thing in beside), place)
 
 
+class Calls(unittest.TestCase):
+    def test_walked_on_the_spot(self):
+        for path, tree in trees():
+            places = on_the_spot(tree)
+            for node in ast.walk(tree):
+                if isinstance(node, ast.Call) and called(node) in WALKED:
+                    self.assertIn(node, places, f"{path.name}:{node.lineno}")
+
+    def test_keywords(self):
+        for place, node in walked():
+            if isinstance(node, ast.Call):
+                for keyword in node.keywords:
+                    self.assertIn((called(node), keyword.arg), KEYWORDS, place)
+
+    def test_f_strings_hold_plain_names(self):
+        for place, node in walked():
+            if isinstance(node, ast.FormattedValue):
+                self.assertIsInstance(node.value, ast.Name, place)
+                self.assertIsNone(node.format_spec, place)
+
+    def test_errors_are_made_where_they_are_raised(self):
+        for place, node in walked():
+            if isinstance(node, ast.Raise):
+                self.assertIsInstance(node.exc, ast.Call, place)
+
+
 class Names(unittest.TestCase):
+    def test_locals_are_not_called_like_classes_or_imports(self):
+        for path, tree in trees():
+            taken = [alias.name for node in drawn(tree) for alias in node.names]
+            taken += [node.name for node in tree.body if isinstance(node, ast.ClassDef)]
+            for node in ast.walk(tree):
+                if isinstance(node, ast.arg):
+                    self.assertNotIn(node.arg, taken, path)
+                if isinstance(node, ast.Name) and isinstance(node.ctx, ast.Store):
+                    self.assertNotIn(node.id, taken, path)
+
     def test_plain_names(self):
         for place, node in walked():
             names = [
