@@ -29,3 +29,7 @@ def cost(book, stay):
     if found:
         raise Barred(found)
     return bill(book, stay)[0]
+
+
+def cost_or_none(book, stay):
+    return bill(book, stay)[0] if can_be_had(book, stay) else None

@@ -1,6 +1,9 @@
 """What several test files need: worths of each word, scattered books, and a second way to tell what they tell."""
 
+import itertools
 import unittest
+
+from stayprice.books import Book
 
 LAST = 10 ** 6
 COINS = 10 ** 12
@@ -15,6 +18,16 @@ WORTHS = {
     "most": (1, 2, 3, 7, 10, 13, 14),
     "deal": ((2, 1), (3, 1), (3, 2), (7, 2), (10, 9), (14, 1), (14, 13), None),
     "fee": (0, 1, 9, 10, 35, COINS - 1, COINS),
+}
+# Worths that leave short stays to be had by some ways, and not by others.
+SHORT = {
+    "price": (0, 1, 5, 10, 20, None),
+    "come": (True, False),
+    "go": (True, False),
+    "least": (1, 2, 3, 4),
+    "most": (1, 2, 3, 14),
+    "deal": ((2, 1), (3, 1), (3, 2), (4, 3), None),
+    "fee": (0, 1, 3, 20),
 }
 # Things of any kind, none of which is a rule.
 NO_RULES = (
@@ -37,7 +50,7 @@ def numbers(seed):
         yield state >> 33
 
 
-def scattered_rules(seed, many, days=12, begin=0, words=WORDS):
+def scattered_rules(seed, many, days=12, begin=0, words=WORDS, worths=WORTHS):
     """So many rules over so many days from begin on."""
     row = numbers(seed)
     rules = []
@@ -45,8 +58,22 @@ def scattered_rules(seed, many, days=12, begin=0, words=WORDS):
         word = words[next(row) % len(words)]
         first = next(row) % days
         last = first + next(row) % (days - first)
-        rules.append((word, begin + first, begin + last, WORTHS[word][next(row) % len(WORTHS[word])]))
+        rules.append((word, begin + first, begin + last, worths[word][next(row) % len(worths[word])]))
     return rules
+
+
+def scattered_rows(seed, many, days=9, begin=0):
+    """The rules of so many books, at most ten each, by which many short stays can be had."""
+    rows = []
+    for number in range(many):
+        row = seed * 7 + number
+        first = [("price", begin, begin + days - 1, 10 + row % 3)] if row % 4 else []
+        rows.append(first + scattered_rules(row, row % 10, days, begin, WORDS, SHORT))
+    return rows
+
+
+def books_of(rows):
+    return [Book(rules) for rules in rows]
 
 
 def due_worth(rules, word, day):
@@ -55,6 +82,82 @@ def due_worth(rules, word, day):
         if rule[0] == word and day in range(rule[1], rule[2] + 1):
             worth = rule[3]
     return worth
+
+
+def due_marks(prices, deal):
+    """A price is marked where fewer than so many of its bundle go ahead of it."""
+    if deal is None:
+        return [False] * len(prices)
+    many, free = deal
+    marks = []
+    for place, price in enumerate(prices):
+        begin = place // many * many
+        ahead = [
+            other for other in range(begin, min(begin + many, len(prices)))
+            if prices[other] < price or (prices[other] == price and other > place)
+        ]
+        marks.append(begin + many <= len(prices) and len(ahead) < free)
+    return marks
+
+
+def due_bill(rules, stay):
+    """The bill, or the first night that is not sold."""
+    nights = range(stay[0], stay[1])
+    prices = [due_worth(rules, "price", night) for night in nights]
+    if None in prices:
+        return stay[0] + prices.index(None)
+    marks = due_marks(prices, due_worth(rules, "deal", stay[0]))
+    fee = due_worth(rules, "fee", stay[0])
+    total = fee
+    for price, mark in zip(prices, marks):
+        total += 0 if mark else price
+    return (total, [row for row in zip(nights, prices, marks)], fee)
+
+
+def due_bars(rules, stay):
+    come, go = stay
+    every = [("price", night, due_worth(rules, "price", night) is None) for night in range(come, go)]
+    every.append(("come", come, due_worth(rules, "come", come) is False))
+    every.append(("go", go, due_worth(rules, "go", go) is False))
+    every.append(("least", come, go < come + due_worth(rules, "least", come)))
+    every.append(("most", come, go > come + due_worth(rules, "most", come)))
+    return [(word, day) for word, day, bar in every if bar]
+
+
+def due_cost(rules, stay):
+    """What the stay costs, or None."""
+    return None if due_bars(rules, stay) else due_bill(rules, stay)[0]
+
+
+def due_parts(rows, stay):
+    """Each part of the stay, with what it costs."""
+    parts = {}
+    for begin, end in itertools.combinations(range(stay[0], stay[1] + 1), 2):
+        for number, rules in enumerate(rows):
+            coins = due_cost(rules, (begin, end))
+            if coins is not None:
+                parts[(begin, end, number)] = coins
+    return parts
+
+
+def all_cuts(parts, come, go):
+    """All cuts, one by one."""
+    if come == go:
+        yield []
+    for part in parts:
+        if part[0] == come:
+            for cut in all_cuts(parts, part[1], go):
+                yield [part] + cut
+
+
+def due_least(parts, stay):
+    """What the least cut costs, reckoned from the end; None without a cut."""
+    least = {stay[1]: 0}
+    for day in range(stay[1] - 1, stay[0] - 1, -1):
+        sums = [parts[part] + least[part[1]] for part in parts if part[0] == day and part[1] in least]
+        if sums:
+            least[day] = min(sums)
+    return least.get(stay[0])
 
 
 def alike(rules):

@@ -3,23 +3,13 @@
 import itertools
 import unittest
 
-from scattered import LAST, WORDS, Told, due_worth, scattered_rules
+from scattered import LAST, WORDS, Told, due_bars, scattered_rules
 from stayprice.bars import bars, can_be_had, cost
 from stayprice.books import Book
 from stayprice.errors import Barred
 from stayprice.prices import bill
 
 SOLD = ("price", 0, LAST, 100)
-
-
-def due_bars(rules, stay):
-    come, go = stay
-    every = [("price", night, due_worth(rules, "price", night) is None) for night in range(come, go)]
-    every.append(("come", come, due_worth(rules, "come", come) is False))
-    every.append(("go", go, due_worth(rules, "go", go) is False))
-    every.append(("least", come, go < come + due_worth(rules, "least", come)))
-    every.append(("most", come, go > come + due_worth(rules, "most", come)))
-    return [(word, day) for word, day, bar in every if bar]
 
 
 class Stays(Told):

@@ -3,7 +3,7 @@
 import itertools
 import unittest
 
-from scattered import COINS, LAST, WORDS, Told, due_worth, scattered_rules
+from scattered import COINS, LAST, WORDS, Told, due_bill, due_marks, scattered_rules
 from stayprice.books import Book, laid
 from stayprice.errors import NotSold
 from stayprice.prices import bill, marked
@@ -11,22 +11,6 @@ from stayprice.prices import bill, marked
 T = True
 F = False
 DEALS = [(many, free) for many in range(2, 15) for free in range(1, many)]
-
-
-def due_marks(prices, deal):
-    """A price is marked where fewer than so many of its bundle go ahead of it."""
-    if deal is None:
-        return [False] * len(prices)
-    many, free = deal
-    marks = []
-    for place, price in enumerate(prices):
-        begin = place // many * many
-        ahead = [
-            other for other in range(begin, min(begin + many, len(prices)))
-            if prices[other] < price or (prices[other] == price and other > place)
-        ]
-        marks.append(begin + many <= len(prices) and len(ahead) < free)
-    return marks
 
 
 class Marked(Told):
@@ -127,20 +111,6 @@ class Marked(Told):
             told[0] = None
             self.same(marked(prices, deal), due)
             self.same(prices, [30, 10, 20])
-
-
-def due_bill(rules, stay):
-    """The bill, or the first night that is not sold."""
-    nights = range(stay[0], stay[1])
-    prices = [due_worth(rules, "price", night) for night in nights]
-    if None in prices:
-        return stay[0] + prices.index(None)
-    marks = due_marks(prices, due_worth(rules, "deal", stay[0]))
-    fee = due_worth(rules, "fee", stay[0])
-    total = fee
-    for price, mark in zip(prices, marks):
-        total += 0 if mark else price
-    return (total, [row for row in zip(nights, prices, marks)], fee)
 
 
 class Bills(Told):
