@@ -169,3 +169,53 @@ class Told(unittest.TestCase):
     def same(self, told, due, handed=None):
         # By repr: True is no 1, and a list is no tuple.
         self.assertEqual(repr(told), repr(due), handed)
+
+
+class BestTold(Told):
+    def is_best(self, told, parts, stay, handed):
+        """Holds a best against every part of the stay; tells the coins due, or None."""
+        self.assertIs(type(told), tuple, handed)
+        due = due_least(parts, stay)
+        if due is None:
+            self.off(told, parts, stay, handed)
+        else:
+            self.had(told, parts, stay, due, handed)
+        return due
+
+    def had(self, told, parts, stay, due, handed):
+        self.assertEqual(len(told), 4, handed)
+        word, coins, cut, paper = told
+        self.same((word, coins), ("had", due), handed)
+        self.assertIs(type(cut), list, handed)
+        day = stay[0]
+        for part in cut:
+            self.same([type(thing) for thing in part], [int, int, int], handed)
+            self.assertIs(type(part), tuple, handed)
+            self.assertIn(part, parts, handed)
+            self.assertEqual(part[0], day, handed)
+            day = part[1]
+        self.assertEqual(day, stay[1], handed)
+        self.assertEqual(sum(parts[part] for part in cut), due, handed)
+        self.paper(paper, parts, stay, due, handed)
+
+    def paper(self, paper, parts, stay, due, handed):
+        self.assertIs(type(paper), list, handed)
+        self.assertEqual(len(paper), stay[1] - stay[0], handed)
+        self.assertTrue(all(type(number) is int for number in paper), handed)
+        self.assertEqual(sum(paper), due, handed)
+        for part in parts:
+            nights = range(part[0], part[1])
+            self.assertLessEqual(sum(paper[night - stay[0]] for night in nights), parts[part], handed)
+
+    def off(self, told, parts, stay, handed):
+        self.assertEqual(len(told), 2, handed)
+        word, days = told
+        self.same(word, "off", handed)
+        self.assertIs(type(days), list, handed)
+        self.assertTrue(all(type(day) is int for day in days), handed)
+        self.assertEqual(days, sorted(set(days)), handed)
+        self.assertIn(stay[0], days, handed)
+        self.assertNotIn(stay[1], days, handed)
+        self.assertTrue(all(stay[0] <= day <= stay[1] for day in days), handed)
+        for part in parts:
+            self.assertFalse(part[0] in days and part[1] not in days, handed)

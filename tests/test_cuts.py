@@ -4,67 +4,22 @@ import itertools
 import unittest
 
 from scattered import (
-    COINS, LAST, SHORT, Told, all_cuts, alike, books_of, due_least, due_parts, numbers, scattered_rows, scattered_rules,
+    COINS, LAST, SHORT, BestTold, Told, all_cuts, alike, books_of, due_least, due_parts, numbers, scattered_rows, scattered_rules,
 )
 from stayprice.books import Book
 from stayprice.cuts import best, cheapest
 
 
-class Bests(Told):
+class Bests(BestTold):
     def held(self, rows, stay):
         """Holds what is told against every part of the stay; tells the coins, or None."""
         books = books_of(rows)
         told = best(books, stay)
-        handed = (rows, stay, told)
-        self.assertIs(type(told), tuple, handed)
-        parts = due_parts(rows, stay)
-        due = due_least(parts, stay)
-        if due is None:
-            self.off(told, parts, stay, handed)
-        else:
-            self.had(told, parts, stay, due, handed)
+        due = self.is_best(told, due_parts(rows, stay), stay, (rows, stay, told))
         self.same(best(books, stay), told)
         self.same([book.rules() for book in books], rows)
         self.assertEqual(len(books), len(rows))
         return due
-
-    def had(self, told, parts, stay, due, handed):
-        self.assertEqual(len(told), 4, handed)
-        word, coins, cut, paper = told
-        self.same((word, coins), ("had", due), handed)
-        self.assertIs(type(cut), list, handed)
-        day = stay[0]
-        for part in cut:
-            self.same([type(thing) for thing in part], [int, int, int], handed)
-            self.assertIs(type(part), tuple, handed)
-            self.assertIn(part, parts, handed)
-            self.assertEqual(part[0], day, handed)
-            day = part[1]
-        self.assertEqual(day, stay[1], handed)
-        self.assertEqual(sum(parts[part] for part in cut), due, handed)
-        self.paper(paper, parts, stay, due, handed)
-
-    def paper(self, paper, parts, stay, due, handed):
-        self.assertIs(type(paper), list, handed)
-        self.assertEqual(len(paper), stay[1] - stay[0], handed)
-        self.assertTrue(all(type(number) is int for number in paper), handed)
-        self.assertEqual(sum(paper), due, handed)
-        for part in parts:
-            nights = range(part[0], part[1])
-            self.assertLessEqual(sum(paper[night - stay[0]] for night in nights), parts[part], handed)
-
-    def off(self, told, parts, stay, handed):
-        self.assertEqual(len(told), 2, handed)
-        word, days = told
-        self.same(word, "off", handed)
-        self.assertIs(type(days), list, handed)
-        self.assertTrue(all(type(day) is int for day in days), handed)
-        self.assertEqual(days, sorted(set(days)), handed)
-        self.assertIn(stay[0], days, handed)
-        self.assertNotIn(stay[1], days, handed)
-        self.assertTrue(all(stay[0] <= day <= stay[1] for day in days), handed)
-        for part in parts:
-            self.assertFalse(part[0] in days and part[1] not in days, handed)
 
     def comes_to(self, rows, stay, coins, cut):
         """Where one cut alone costs least, it is told."""
